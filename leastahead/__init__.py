@@ -1,0 +1,1 @@
+"""Leastahead: how many letters ahead a converter must read."""
