@@ -60,19 +60,19 @@ def output_count(judge):
     return len(judge[0][0])
 
 
-def is_tuple_of_letters(value, letters):
-    """Return whether any value is a tuple of integers from 0 to letters - 1, however many."""
-    return isinstance(value, tuple) and all([is_number_below(letter, letters) for letter in value])
+def is_tuple_of_numbers(value, limit):
+    """Return whether any value is a tuple of integers from 0 to limit - 1, however many."""
+    return isinstance(value, tuple) and all([is_number_below(number, limit) for number in value])
 
 
 def is_input_word(judge, value):
     """Return whether any value is an input word of at most 400 letters."""
-    return is_tuple_of_letters(value, input_count(judge)) and len(value) <= LONGEST_WORD
+    return is_tuple_of_numbers(value, input_count(judge)) and len(value) <= LONGEST_WORD
 
 
 def is_output_word(judge, value):
     """Return whether any value is an output word of at most 400 letters."""
-    return is_tuple_of_letters(value, output_count(judge)) and len(value) <= LONGEST_WORD
+    return is_tuple_of_numbers(value, output_count(judge)) and len(value) <= LONGEST_WORD
 
 
 def next_state(judge, state, x, y):

@@ -1,7 +1,7 @@
 """Runs of a judge, and the answers to an input word, counted and numbered."""
 
 from leastahead.errors import NoAnswer, NoNumber, Refused
-from leastahead.judges import is_number_below, is_tuple_of_letters, output_count
+from leastahead.judges import is_number_below, is_tuple_of_numbers, output_count
 
 
 def passed_states(judge, inputs, outputs):
@@ -79,7 +79,7 @@ def answer_at(judge, inputs, number):
 def is_answer(judge, inputs, value):
     """Return whether any value answers the inputs from the start."""
     # Not is_output_word: its limit of 400 letters would refuse answers to longer inputs.
-    if not is_tuple_of_letters(value, output_count(judge)) or len(value) != len(inputs):
+    if not is_tuple_of_numbers(value, output_count(judge)) or len(value) != len(inputs):
         return False
     return len(passed_states(judge, inputs, value)) == len(inputs) + 1
 

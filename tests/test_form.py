@@ -18,7 +18,7 @@ METHODS = set("""
     append clear copy count endswith extend find get index insert isalnum isalpha isdigit islower isspace isupper
     items join keys ljust lower lstrip partition pop remove replace reverse rfind rjust rpartition rsplit rstrip
     setdefault split splitlines startswith strip update upper values zfill bit_length isascii isdecimal
-    removeprefix removesuffix rindex add discard sort __init__
+    removeprefix removesuffix rindex add discard __init__
 """.split())
 BARRED = re.compile(r"""
     \b(type|typing|typing_extensions|enum|Enum|IntEnum|StrEnum|Flag|IntFlag|Generic|Protocol|ABC|ABCMeta|namedtuple
@@ -34,6 +34,18 @@ NEVER = (
 
 def nodes(path, kinds):
     return [node for node in ast.walk(ast.parse(path.read_text())) if isinstance(node, kinds)]
+
+
+def with_parents(path):
+    """All nodes of a file, each with the node around it."""
+    return [(node, around) for around in nodes(path, ast.AST) for node in ast.iter_child_nodes(around)]
+
+
+def called(node):
+    """The name of the function or the method that is called, None if the node is no call."""
+    if not isinstance(node, ast.Call):
+        return None
+    return node.func.id if isinstance(node.func, ast.Name) else getattr(node.func, "attr", None)
 
 
 def bound_names(path):
@@ -122,3 +134,42 @@ class Form(unittest.TestCase):
             for node in nodes(path, ast.Call):
                 if isinstance(node.func, ast.Attribute):
                     self.assertIn(node.func.attr, METHODS | own, (path.name, node.lineno))
+
+    def test_methods_and_attributes_have_different_names(self):
+        methods = {node.name for path in FILES for part in nodes(path, ast.ClassDef) for node in part.body
+                   if isinstance(node, ast.FunctionDef)}
+        attributes = {node.attr for path in FILES for node in nodes(path, ast.Attribute)
+                      if isinstance(node.ctx, ast.Store)}
+        self.assertEqual(methods & attributes, set())
+
+    def test_names_of_imports_and_classes_mean_nothing_else(self):
+        for path in FILES:
+            taken = {alias.asname or alias.name for node in nodes(path, ast.ImportFrom) for alias in node.names}
+            taken |= {node.name for node in nodes(path, ast.ClassDef)}
+            local = {node.id for node in nodes(path, ast.Name) if isinstance(node.ctx, ast.Store)}
+            local |= {node.arg for node in nodes(path, ast.arg)}
+            self.assertEqual(taken & local, set(), path.name)
+
+    def test_no_files_import_from_each_other(self):
+        left = {path.stem: {node.module.partition(".")[2] for node in nodes(path, ast.ImportFrom)} for path in FILES}
+        while left:
+            free = [name for name, needed in left.items() if not needed & set(left)]
+            self.assertTrue(free, left)
+            for name in free:
+                del left[name]
+
+    def test_sets_are_used_on_the_spot(self):
+        for path in FILES:
+            for node, around in with_parents(path):
+                if isinstance(node, (ast.Set, ast.SetComp)) or called(node) in ("set", "frozenset"):
+                    self.assertTrue(called(around) in ("sorted", "len") or isinstance(around, ast.Compare),
+                                    (path.name, node.lineno))
+
+    def test_what_is_iterated_at_once(self):
+        takers = ("list", "tuple", "dict", "sorted", "sum", "any", "all", "enumerate", "zip")
+        for path in FILES:
+            for node, around in with_parents(path):
+                if called(node) in ("zip", "enumerate", "reversed", "range", "items", "keys", "values"):
+                    fits = isinstance(around, (ast.For, ast.comprehension)) or called(around) in takers
+                    fits = fits or called(node) == "range" and called(around) == "reversed"
+                    self.assertTrue(fits, (path.name, node.lineno))

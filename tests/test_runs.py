@@ -2,10 +2,10 @@
 
 import copy
 import itertools
-import unittest
 
 from leastahead.errors import NoAnswer, NoNumber, Refused
 from leastahead.runs import answer_at, answer_number, count_answers, run
+from tests.cases import Case
 from tests.samples import COPY, FAR, GREAT, NEXT, NONE, SPARSE, STRANGE, WALK, random_judges, replaced, uniform
 
 SAMPLES = [NEXT, FAR, WALK, COPY, NONE, SPARSE, uniform(1, 4, 4, 0)] + random_judges(40, 3)
@@ -35,21 +35,13 @@ def plain_answers(judge, inputs):
     return answers, [word for word in words if plain_run(judge, inputs, word)[-1] is None]
 
 
-class Case(unittest.TestCase):
-    def assert_raises(self, error_class, argument, value, function, *call):
-        with self.assertRaises(error_class) as caught:
-            function(*call)
-        self.assertIs(type(caught.exception), error_class)
-        self.assertIs(getattr(caught.exception, argument), value)
-
+class Run(Case):
     def assert_refused(self, index, judge, inputs, outputs):
         with self.assertRaises(Refused) as caught:
             run(judge, inputs, outputs)
         self.assertEqual(caught.exception.index, index)
         self.assertIs(type(caught.exception.index), int)
 
-
-class Run(Case):
     def test_examples(self):
         self.assertEqual(run(NEXT, (0, 1), (1, 0)), (0, 2, 1))
         self.assert_refused(1, NEXT, (0, 1), (0, 0))
