@@ -123,7 +123,8 @@ class ShowsTable(Case):
     def test_other_values(self):
         for judge, ahead in ENOUGH[:6]:
             table = table_for(judge, ahead)
-            for value in STRANGE + (0, 1, (), ((),), list(table), (table,), [table], dict(enumerate(table)), str(table)):
+            others = (0, 1, (), ((),), list(table), (table,), [table], dict(enumerate(table)), str(table))
+            for value in STRANGE + others:
                 before = copy.deepcopy(value)
                 self.assert_no_table(judge, ahead, value)
                 self.assertEqual(value, before)

@@ -18,6 +18,9 @@ from tests.samples import (
 
 LATE = ((0,), (), (0,))
 EVEN, ODD = ((0,), (1,)), ((1,), (0,))
+ALMOST_ODD = (
+    [(1,), (0,)], ([1], [0]), ((True,), (0,)), ((1,), (False,)), ((1,),), ((1,), (0,), ()), ((1,), 0),
+)
 LINES = [line_judge(states, inputs, 2, states) for states in range(2, 6) for inputs in (1, 2)]
 SMALL = [NEXT, FAR, WALK, COPY, NONE, SPARSE, PARITY] + LINES + small_judges(60, 21)
 
@@ -173,7 +176,7 @@ class NoSuchRelation(Case):
             self.assert_no_relation(WALK, relation, 1)
 
     def test_almost_relations(self):
-        for wrong in ([(1,), (0,)], ([1], [0]), ((True,), (0,)), ((1,), (False,)), ((1,),), ((1,), (0,), ()), ((1,), 0)):
+        for wrong in ALMOST_ODD:
             self.assert_no_relation(PARITY, wrong, 2)
 
     def test_ahead_of_no_word(self):
@@ -264,7 +267,7 @@ class LoopOf(Case):
 
     def test_almost_relations(self):
         self.assert_loop_of(PARITY, ODD, 2)
-        for wrong in ([(1,), (0,)], ([1], [0]), ((True,), (0,)), ((1,), (False,)), ((1,),), ((1,), (0,), ()), ((1,), 0)):
+        for wrong in ALMOST_ODD:
             self.assert_raises(NotLong, "relation", wrong, loop_of, PARITY, wrong)
 
     def test_by_name(self):
@@ -399,7 +402,8 @@ class Limit(Case):
 
     def test_far_beyond(self):
         self.assert_all_too_many(MAPS)
-        self.assert_all_too_many(maps_judge((1, 2, 3, 4, 5, 6, 7, 0), (1, 0, 2, 3, 4, 5, 6, 7), (0, 0, 2, 3, 4, 5, 6, 7)))
+        turn, exchange, join = (1, 2, 3, 4, 5, 6, 7, 0), (1, 0, 2, 3, 4, 5, 6, 7), (0, 0, 2, 3, 4, 5, 6, 7)
+        self.assert_all_too_many(maps_judge(turn, exchange, join))
 
     def test_what_has_no_limit(self):
         one, other = relation_of(MAPS, (0, 1)), relation_of(MAPS, (2,))
@@ -408,9 +412,9 @@ class Limit(Case):
         self.assertIs(is_relation(MAPS, None), False)
 
     def test_words_of_400_letters(self):
-        relations = all_relations(AT_LIMIT)
+        some = all_relations(AT_LIMIT)[::200]
         relation = long_relations(AT_LIMIT)[0]
         self.assertGreater(count_words(AT_LIMIT, relation, 400), 0)
         self.assertEqual(relation_by_steps(AT_LIMIT, first_word(AT_LIMIT, relation, 400)), relation)
-        self.assertEqual(sum([count_words(AT_LIMIT, one, 3) for one in relations[::200]]),
-                         len([word for word in words_of(2, 3) if relation_by_steps(AT_LIMIT, word) in relations[::200]]))
+        listed = [word for word in words_of(2, 8) if relation_by_steps(AT_LIMIT, word) in some]
+        self.assertEqual(sum([count_words(AT_LIMIT, one, 8) for one in some]), len(listed))
