@@ -15,6 +15,11 @@ def is_number_below(value, limit):
     return 0 <= value < limit
 
 
+def is_tuple_of_length(value, length):
+    """Return whether any value is a tuple of this length."""
+    return isinstance(value, tuple) and len(value) == length
+
+
 def is_entry(value, states):
     """Return whether any value is an entry of a judge with so many states."""
     return value is None or is_number_below(value, states)
@@ -22,16 +27,12 @@ def is_entry(value, states):
 
 def is_row(value, states, outputs):
     """Return whether any value is a row of so many entries."""
-    if not isinstance(value, tuple) or len(value) != outputs:
-        return False
-    return all([is_entry(entry, states) for entry in value])
+    return is_tuple_of_length(value, outputs) and all([is_entry(entry, states) for entry in value])
 
 
 def is_state(value, states, inputs, outputs):
     """Return whether any value is a tuple of so many rows."""
-    if not isinstance(value, tuple) or len(value) != inputs:
-        return False
-    return all([is_row(row, states, outputs) for row in value])
+    return is_tuple_of_length(value, inputs) and all([is_row(row, states, outputs) for row in value])
 
 
 def is_filled_tuple(value, most):

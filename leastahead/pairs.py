@@ -1,7 +1,7 @@
 """Safe pairs of a state and pending letters, and the tables of converters."""
 
 from leastahead.errors import NotEnough, TooMany
-from leastahead.judges import input_count, is_number_below, is_tuple_of_numbers, output_count
+from leastahead.judges import input_count, is_number_below, is_tuple_of_length, is_tuple_of_numbers, output_count
 
 MOST_PAIRS = 20000
 
@@ -109,7 +109,7 @@ def is_word_of_length(value, letters, length):
 
 def is_table_row(judge, ahead, value):
     """Return whether any value has the form of a row of a table."""
-    if not isinstance(value, tuple) or len(value) != 3:
+    if not is_tuple_of_length(value, 3):
         return False
     state, pending, answers = value
     if not is_number_below(state, len(judge)) or not is_word_of_length(pending, input_count(judge), ahead):

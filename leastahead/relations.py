@@ -1,7 +1,7 @@
 """Relations of words: all of them, the long ones, and the words that have a relation."""
 
 from leastahead.errors import NoRelation, NotLong, NoWord, TooMany
-from leastahead.judges import input_count, is_tuple_of_numbers
+from leastahead.judges import input_count, is_tuple_of_length, is_tuple_of_numbers
 
 MOST_RELATIONS = 2000
 LONGEST_LOOP_WORD = 2000
@@ -16,9 +16,7 @@ def is_ascending_tuple(value, states):
 
 def is_relation(judge, value):
     """Return whether any value is a relation of the judge."""
-    if not isinstance(value, tuple) or len(value) != len(judge):
-        return False
-    return all([is_ascending_tuple(states, len(judge)) for states in value])
+    return is_tuple_of_length(value, len(judge)) and all([is_ascending_tuple(states, len(judge)) for states in value])
 
 
 def states_behind(states, relation):
@@ -217,14 +215,9 @@ def steps_back(graph, places):
     return back
 
 
-def loop_of(judge, relation):
-    """Return a loop for a long relation, whose words have at most as many letters as there are relations."""
-    graph = Graph(judge)
-    places = long_places(graph)
-    if not is_relation(judge, relation) or graph.places.get(relation) not in places:
-        raise NotLong(relation)
-    back = steps_back(graph, places)
-    here = graph.places[relation]
+def loop_to(graph, back, place):
+    """Return a loop for the long relation at this place; back is what steps_back returned."""
+    here = place
     letters = []
     met = {}
     # Backwards through long relations, of which there are only so many, until one of them is met again.
@@ -237,12 +230,13 @@ def loop_of(judge, relation):
     return (graph.word_to(here), around, behind)
 
 
-def relation_behind(graph, word):
-    """Return the relation of a word."""
-    here = 0
-    for x in word:
-        here = graph.steps[here][x]
-    return graph.relations[here]
+def loop_of(judge, relation):
+    """Return a loop for a long relation, whose words have at most as many letters as there are relations."""
+    graph = Graph(judge)
+    places = long_places(graph)
+    if not is_relation(judge, relation) or graph.places.get(relation) not in places:
+        raise NotLong(relation)
+    return loop_to(graph, steps_back(graph, places), graph.places[relation])
 
 
 def is_loop_word(judge, value):
@@ -250,14 +244,22 @@ def is_loop_word(judge, value):
     return is_tuple_of_numbers(value, input_count(judge)) and len(value) <= LONGEST_LOOP_WORD
 
 
-def shows_loop(judge, relation, value):
-    """Return whether any value is a loop for a long relation."""
-    graph = Graph(judge)
-    if not isinstance(value, tuple) or len(value) != 3:
-        return False
-    if not all([is_loop_word(judge, word) for word in value]):
+def is_loop(judge, value):
+    """Return whether any value is a loop for some relation."""
+    if not is_tuple_of_length(value, 3) or not all([is_loop_word(judge, word) for word in value]):
         return False
     u, v, w = value
-    if v == () or relation_behind(graph, u) != relation_behind(graph, u + v):
-        return False
-    return relation_behind(graph, u + w) == relation
+    return v != () and relation_of(judge, u) == relation_of(judge, u + v)
+
+
+def relation_of_loop(judge, loop):
+    """Return the relation for which this is a loop."""
+    u, v, w = loop
+    return relation_of(judge, u + w)
+
+
+def shows_loop(judge, relation, value):
+    """Return whether any value is a loop for a long relation."""
+    # The graph itself is not needed, but its error comes first.
+    Graph(judge)
+    return is_loop(judge, value) and relation_of_loop(judge, value) == relation

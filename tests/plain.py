@@ -172,3 +172,42 @@ def plain_outputs(judge, ahead, table, inputs):
         outputs.append(answer)
         states.append(judge[states[-1]][inputs[at]][answer])
     return tuple(outputs), tuple(states)
+
+
+def plain_ranks(judge, relations):
+    """The ranks of all lost positions, by rounds over all positions."""
+    positions = [(state, relation) for state in range(len(judge)) for relation in relations]
+    ranks = {(state, relation): 0 for state, relation in positions if relation[state] == ()}
+    while True:
+        found = {}
+        for state, relation in positions:
+            if (state, relation) not in ranks:
+                greatest = [max(ranks[(goal, later)] for goal in relation[state]) for later in relations
+                            if all((goal, later) in ranks for goal in relation[state])]
+                if greatest:
+                    found[(state, relation)] = 1 + min(greatest)
+        if not found:
+            return ranks
+        ranks.update(found)
+
+
+def plain_is_block(judge, block):
+    """Whether a tuple of three words is a block."""
+    u, v, w = block
+    return (max(len(u), len(v), len(w)) <= 2000 and v != ()
+            and relation_by_steps(judge, u) == relation_by_steps(judge, u + v))
+
+
+def plain_is_certificate(judge, value):
+    """Whether blocks, each of three words, and rows, each of three integers, are a certificate."""
+    blocks, rows = value
+    if not blocks or not rows or not all(plain_is_block(judge, block) for block in blocks):
+        return False
+    relations = [relation_by_steps(judge, u + w) for u, v, w in blocks]
+    for at, (state, block, following) in enumerate(rows):
+        if state not in range(len(judge)) or block not in range(len(blocks)) or following not in range(len(blocks)):
+            return False
+        for goal in relations[block][state]:
+            if (goal, following) not in [row[:2] for row in rows[:at]]:
+                return False
+    return rows[-1][0] == 0

@@ -79,12 +79,38 @@ def maps_judge(*letters):
     return tuple([tuple([(letter[state],) for letter in letters]) for state in range(len(letters[0]))])
 
 
-def later_judge(ahead):
-    """Return the judge of two letters for which output letter i must be input letter i + ahead, ahead being 1 or 2.
+# All turnings of six states, 720; of seven states, 5040; all maps of five states, 3125.
+TURNS = maps_judge((1, 2, 3, 4, 5, 0), (1, 0, 2, 3, 4, 5))
+TURNS_OF_SEVEN = maps_judge((1, 2, 3, 4, 5, 6, 0), (1, 0, 2, 3, 4, 5, 6))
+MAPS = maps_judge((1, 2, 3, 4, 0), (1, 0, 2, 3, 4), (0, 0, 2, 3, 4))
+
+
+# Judges whose lost positions have ranks up to 3, 4, 5 and 5.
+DEEP = (
+    (((None, 0), (1, 2)), ((2, None), (1, 2)), ((1, None), (None, None))),
+    (((1, None, 0), (0, None, 0), (None, None, None)), ((None, None, None), (None, None, 1), (None, 2, 1)),
+     ((2, 2, 1), (2, 2, None), (1, 1, 0))),
+    (((None, None, None), (2, 2, 1), (2, 0, 3)), ((0, 1, 1), (None, 1, 3), (3, 3, 3)),
+     ((1, 1, 0), (1, 3, None), (2, None, None)), ((None, None, None), (2, 3, 1), (None, 1, None))),
+    (((None, 1, 4), (None, None, 2)), ((4, 3, 2), (None, 0, 2)), ((None, 3, None), (3, 3, 2)),
+     ((2, None, None), (None, None, None)), ((None, None, 1), (None, 4, 0))),
+)
+
+
+# The certificate that the document prints for the judge FAR.
+FAR_CERTIFICATE = (
+    (((0,), (0,), ()), ((0,), (0,), (1,)), ((0,), (0,), (2,))),
+    ((1, 2, 0), (2, 1, 0), (1, 0, 2), (2, 0, 1), (0, 0, 0)),
+)
+
+
+def later_judge(ahead, letters=2):
+    """Return the judge for which output letter i must be input letter i + ahead: 1 for two or three letters, 2 for two.
 
     A state is the last output letters, up to `ahead` of them, the oldest one first.
     """
-    words = [word for length in range(ahead + 1) for word in itertools.product((0, 1), repeat=length)]
+    every = range(letters)
+    words = [word for length in range(ahead + 1) for word in itertools.product(every, repeat=length)]
 
     def entry(word, x, y):
         if len(word) < ahead:
@@ -92,7 +118,57 @@ def later_judge(ahead):
         # The oldest output letter foretold this input letter.
         return words.index(word[1:] + (y,)) if word[0] == x else None
 
-    return tuple([tuple([tuple([entry(word, x, y) for y in (0, 1)]) for x in (0, 1)]) for word in words])
+    return tuple([tuple([tuple([entry(word, x, y) for y in every]) for x in every]) for word in words])
+
+
+def sums_judge(phases):
+    """Return the judge for which, of each `phases` input letters in turn, from 1 to 4, the first output letter must be
+    the parity of them all; the other output letters are free. So the least look-ahead is phases - 1.
+
+    State 2 * phase - 1 + parity, or 0 in the first phase: the parity that the inputs left must have.
+    """
+    def entry(phase, parity, x, y):
+        left = (y if phase == 0 else parity) ^ x
+        if phase == phases - 1:
+            return 0 if left == 0 else None
+        return 2 * phase + 1 + left
+
+    states = [(0, 0)] + [(phase, parity) for phase in range(1, phases) for parity in (0, 1)]
+    return tuple([tuple([tuple([entry(phase, parity, x, y) for y in (0, 1)]) for x in (0, 1)])
+                  for phase, parity in states])
+
+
+def race_judge(ahead, waits=1):
+    """Return the judge whose first output letter must tell which one of the last two input letters comes first, as
+    long as the others, the waits, come. It must be right within so many letters, from 1 to 6, if it tells the last
+    but one, and for ever if it tells the last one. Then this begins again. So the least look-ahead is `ahead`.
+    """
+    told = ahead + 1
+
+    def rows(wait, one, other):
+        return tuple([(wait, wait)] * waits + [(one, one), (other, other)])
+
+    start = ((1, told),) * (waits + 2)
+    return (start, *[rows((state + 1) % told, 0, None) for state in range(1, told)], rows(told, None, 0))
+
+
+def mixed(judge, source):
+    """Return the judge with its states, but for the start, and its letters in other sequences."""
+    states, inputs, outputs = [list(range(many)) for many in (len(judge), len(judge[0]), len(judge[0][0]))]
+    states[1:] = source.sample(states[1:], len(states) - 1)
+    source.shuffle(inputs)
+    source.shuffle(outputs)
+
+    def entry(value):
+        return None if value is None else states.index(value)
+
+    return tuple([tuple([tuple([entry(judge[state][x][y]) for y in outputs]) for x in inputs]) for state in states])
+
+
+def with_unreached(judge, source):
+    """Return the judge with a further state, which is never reached, but leads anywhere."""
+    entries = [None] + list(range(len(judge) + 1))
+    return judge + (tuple([tuple([source.choice(entries) for entry in row]) for row in judge[0]]),)
 
 
 def begun_at(judge, start):
@@ -106,12 +182,40 @@ def begun_at(judge, start):
     return tuple([tuple([row_with(row) for row in judge[state]]) for state in numbers])
 
 
+# Judges for which no look-ahead is enough.
+ENDLESS = (
+    FAR, NONE, *DEEP, uniform(3, 2, 2, None), (((0,), (None,)),), begun_at(later_judge(1), 1),
+    begun_at(later_judge(1), 2), begun_at(later_judge(2), 3),
+    maps_judge((1, 2, 3, 4, 5, 6, 7, 7), (1, 2, 3, 4, 5, 6, 7, None)),
+)
+
+
 def replaced(value, path, part):
     """Return the nested tuple with another part at the place to which the path of indexes leads."""
     if not path:
         return part
     at = path[0]
     return value[:at] + (replaced(value[at], path[1:], part),) + value[at + 1:]
+
+
+def all_paths(value):
+    """Return the paths of indexes to all parts of a nested tuple, the value itself included."""
+    if not isinstance(value, tuple):
+        return [()]
+    return [()] + [(at,) + path for at, part in enumerate(value) for path in all_paths(part)]
+
+
+def spoiled(value):
+    """Return the nested tuple of integers many times, each time with one part of another kind in it."""
+    values = []
+    for path in all_paths(value):
+        part = part_at(value, path)
+        if isinstance(part, tuple):
+            others = [list(part), dict(enumerate(part)), None, str(part), 0, False]
+        else:
+            others = [None, True, False, str(part), (part,), [part], {part: part}, -1, -GREAT, GREAT]
+        values += [replaced(value, path, other) for other in others]
+    return values
 
 
 def part_at(value, path):

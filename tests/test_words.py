@@ -13,7 +13,8 @@ from leastahead.relations import (
 from tests.cases import Case
 from tests.plain import Layers, relation_by_outputs, relation_by_steps, words_of
 from tests.samples import (
-    COPY, FAR, GREAT, NEXT, NONE, PARITY, SPARSE, STRANGE, WALK, line_judge, maps_judge, replaced, small_judges,
+    COPY, FAR, GREAT, MAPS, NEXT, NONE, PARITY, SPARSE, STRANGE, TURNS, WALK, line_judge, maps_judge, replaced,
+    small_judges,
 )
 
 LATE = ((0,), (), (0,))
@@ -23,10 +24,6 @@ ALMOST_ODD = (
 )
 LINES = [line_judge(states, inputs, 2, states) for states in range(2, 6) for inputs in (1, 2)]
 SMALL = [NEXT, FAR, WALK, COPY, NONE, SPARSE, PARITY] + LINES + small_judges(60, 21)
-
-# All turnings of six states, 720; all maps of five states, 3125.
-TURNS = maps_judge((1, 2, 3, 4, 5, 0), (1, 0, 2, 3, 4, 5))
-MAPS = maps_judge((1, 2, 3, 4, 0), (1, 0, 2, 3, 4), (0, 0, 2, 3, 4))
 
 # Judges with a known number of relations at the limit. In one of each two, some word other than () has the
 # relation of (), which then counts.
