@@ -76,14 +76,19 @@ def is_output_word(judge, value):
     return is_tuple_of_numbers(value, output_count(judge)) and len(value) <= LONGEST_WORD
 
 
-def next_state(judge, state, x, y):
-    """Return the next state for input letter x and output letter y, None if y is refused."""
+def check_place(judge, state, x, y):
+    """Raise an error unless these values are a state, an input letter and an output letter."""
     if not is_number_below(state, len(judge)):
         raise NoState(state)
     if not is_number_below(x, input_count(judge)):
         raise NoInput(x)
     if not is_number_below(y, output_count(judge)):
         raise NoOutput(y)
+
+
+def next_state(judge, state, x, y):
+    """Return the next state for input letter x and output letter y, None if y is refused."""
+    check_place(judge, state, x, y)
     return judge[state][x][y]
 
 

@@ -57,6 +57,17 @@ def bound_names(path):
     return found
 
 
+def names_at_top(path):
+    """The names of the functions, classes and values that a file defines itself."""
+    found = []
+    for statement in ast.parse(path.read_text()).body:
+        if isinstance(statement, (ast.FunctionDef, ast.ClassDef)):
+            found.append(statement.name)
+        elif isinstance(statement, ast.Assign):
+            found += [target.id for target in statement.targets]
+    return found
+
+
 class Form(unittest.TestCase):
     def test_the_folder_holds_python_files_alone(self):
         self.assertIn(FOLDER / "__init__.py", FILES)
@@ -95,7 +106,7 @@ class Form(unittest.TestCase):
             self.assertEqual(len(bound), len(set(bound)), path.name)
 
     def test_imports(self):
-        defined = {path.stem: [node.name for node in nodes(path, (ast.FunctionDef, ast.ClassDef))] for path in FILES}
+        defined = {path.stem: names_at_top(path) for path in FILES}
         for path in FILES:
             for node in nodes(path, ast.ImportFrom):
                 self.assertEqual(node.level, 0, path.name)
